@@ -1,0 +1,1 @@
+"""Lagwedge: damages by years and lags, what is still to come, and where it comes from."""
