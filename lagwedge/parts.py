@@ -42,24 +42,33 @@ def is_part(thing):
 
 def plus(one, other):
     """Add two parts."""
-    return part(one[0] * other[1] + other[0] * one[1], one[1] * other[1])
+    # Factors are taken out as early as can be: developed cells have many figures.
+    shared = shared_factor(one[1], other[1])
+    bottom = one[1] // shared
+    top = one[0] * (other[1] // shared) + other[0] * bottom
+    left = shared_factor(top, shared)
+    return (top // left, bottom * (other[1] // left))
 
 
 def minus(one, other):
     """Take the second part from the first."""
-    return part(one[0] * other[1] - other[0] * one[1], one[1] * other[1])
+    return plus(one, (-other[0], other[1]))
 
 
 def times(one, other):
     """Multiply two parts."""
-    return part(one[0] * other[0], one[1] * other[1])
+    # Each part is in lowest terms already, so only a top and the other one's bottom can share a factor.
+    down = shared_factor(one[0], other[1])
+    up = shared_factor(other[0], one[1])
+    return ((one[0] // down) * (other[0] // up), (one[1] // up) * (other[1] // down))
 
 
 def over(one, other):
     """Share the first part by the second."""
-    if other[0] == 0:
+    top, bottom = other
+    if top == 0:
         raise NoShare()
-    return part(one[0] * other[1], one[1] * other[0])
+    return times(one, (bottom, top) if top > 0 else (-bottom, -top))
 
 
 def order(one, other):

@@ -103,6 +103,17 @@ def last_known(years, depth, place):
     return min(depth, years - 1 - place)
 
 
+def knowing(wedge, things, lag):
+    """Tell of things, one for each year, those whose year knows a lag."""
+    # An elder year knows whatever a younger one knows, so they stand first.
+    return things[:max(0, len(wedge) - lag)]
+
+
+def cell_sum(wedge, lag):
+    """Tell all known cells at a lag added."""
+    return total([row[lag] for row in knowing(wedge, wedge.rows(), lag)])
+
+
 def check_frame(first, depth, rows):
     """Refuse a first year, a depth or a number of years that no wedge has."""
     if not is_within(first, 0, MOST_FIRST) or not is_within(depth, 1, MOST_DEPTH):

@@ -10,6 +10,14 @@ FUNCTIONS = {
         "times": "(one, other)", "over": "(one, other)", "order": "(one, other)",
         "total": "(parts, *, start=(0, 1))", "shown_part": "(one, *, base=10)", "read_part": "(text, *, base=10)",
     },
+    "ladder": {
+        "steps": "(wedge, *, plan=None)", "factors": "(wedge, *, plan=None)",
+        "agrees": "(wedge, step, factor, *, plan=None)",
+    },
+    "developed": {
+        "developed": "(wedge, *, plan=None)", "ends": "(wedge, *, plan=None)", "still": "(wedge, *, plan=None)",
+        "still_sum": "(wedge, *, plan=None)", "foretold": "(wedge, *, plan=None)",
+    },
 }
 CLASSES = {
     ("wedge", "Wedge"): {
@@ -19,8 +27,13 @@ CLASSES = {
         "grown": "(self, adds)", "__len__": "(self)", "__eq__": "(self, other)", "__repr__": "(self)",
         "__str__": "(self)",
     },
+    ("plan", "Plan"): {
+        "__init__": "(self, *, last=0, free=(1, 1))", "keep_last": "(self, last)", "leave": "(self, year, step)",
+        "bring": "(self, year, step)", "pick": "(self, step, factor)", "unpick": "(self, step)",
+        "take_back": "(self)", "lefts": "(self)", "picks": "(self)", "twin": "(self)",
+    },
 }
-VALUES = {("wedge", "Wedge"): ["first", "depth", "look"]}
+VALUES = {("wedge", "Wedge"): ["first", "depth", "look"], ("plan", "Plan"): ["last", "free"]}
 
 
 def module(name):
@@ -47,7 +60,7 @@ class Interface(unittest.TestCase):
                     self.assertEqual(str(inspect.signature(vars(held)[name])), arguments)
 
     def test_values_are_set_on_each_object(self):
-        made = {("wedge", "Wedge"): module("wedge").Wedge(2001, 1, [[(1, 1)]])}
+        made = {("wedge", "Wedge"): module("wedge").Wedge(2001, 1, [[(1, 1)]]), ("plan", "Plan"): module("plan").Plan()}
         for where, values in VALUES.items():
             for name in values:
                 self.assertIn(name, vars(made[where]))
