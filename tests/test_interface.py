@@ -18,6 +18,17 @@ FUNCTIONS = {
         "developed": "(wedge, *, plan=None)", "ends": "(wedge, *, plan=None)", "still": "(wedge, *, plan=None)",
         "still_sum": "(wedge, *, plan=None)", "foretold": "(wedge, *, plan=None)",
     },
+    "split": {
+        "shares": "(wedge, *, plan=None)", "split": "(wedge, *, plan=None)", "product": "(tops, columns)",
+        "misfit": "(wedge, tops, columns)",
+    },
+    "methods": {
+        "prior": "(wedge, begins, *, plan=None, rounds=1)", "rates": "(wedge, sizes)", "even": "(wedge, sizes)",
+        "one_rate": "(wedge, sizes, *, plan=None)", "by_name": "(word, wedge, sizes, *, plan=None)",
+        "compared": "(ones, others)",
+    },
+    "misses": {"miss": "(wedge, step, factor)", "least": "(wedge)", "spreads": "(wedge)", "unsure": "(wedge)"},
+    "reach": {"last_lag": "(years, depth, row)", "reach": "(years, depth, row, lag)"},
 }
 CLASSES = {
     ("wedge", "Wedge"): {
