@@ -11,6 +11,12 @@ LEAST_BASE = 2
 MOST_BASE = 16
 MOST_SIGNS = 200
 
+# Numbers of more bits than LONG are shortened by their heads alone, of HEAD bits, before they are divided whole.
+LONG = 1024
+HEAD = 512
+# A little more than half of the head: behind it what the tails would turn begins to tell.
+SURE = 264
+
 
 def part(top, bottom=1):
     """Bring two whole numbers to a part."""
@@ -27,7 +33,22 @@ def shared_factor(one, other):
     one, other = abs(one), abs(other)
     while other != 0:
         one, other = other, one % other
+        if other.bit_length() > LONG:
+            one, other = shortened(one, other)
     return one
+
+
+def shortened(one, other):
+    """Tell two shorter numbers that share the same factors, of two long ones with the greater one ahead."""
+    shift = one.bit_length() - HEAD
+    head, behind = one >> shift, other >> shift
+    # Whatever the heads tell, each turn takes one number some times from the other, which keeps what they share.
+    up, across, down, along = 1, 0, 0, 1
+    while behind >> SURE != 0:
+        share, rest = divmod(head, behind)
+        head, behind = behind, rest
+        up, across, down, along = down, along, up - share * down, across - share * along
+    return abs(up * one + across * other), abs(down * one + along * other)
 
 
 def is_part(thing):

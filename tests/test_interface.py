@@ -29,6 +29,7 @@ FUNCTIONS = {
     },
     "misses": {"miss": "(wedge, step, factor)", "least": "(wedge)", "spreads": "(wedge)", "unsure": "(wedge)"},
     "reach": {"last_lag": "(years, depth, row)", "reach": "(years, depth, row, lag)"},
+    "slopes": {"slopes": "(wedge)", "gap": "(one, other)"},
 }
 CLASSES = {
     ("wedge", "Wedge"): {
@@ -43,8 +44,24 @@ CLASSES = {
         "bring": "(self, year, step)", "pick": "(self, step, factor)", "unpick": "(self, step)",
         "take_back": "(self)", "lefts": "(self)", "picks": "(self)", "twin": "(self)",
     },
+    ("keeper", "Keeper"): {
+        "__init__": "(self, wedge)", "table": "(self)", "tops": "(self)", "now": "(self)",
+        "move": "(self, year, lag, amount)", "take_back": "(self)", "grow": "(self, adds)",
+    },
+    ("book", "Book"): {
+        "__init__": "(self, first, *, depth=6)", "notice": "(self, branch, year, at)",
+        "pay": "(self, damage, at, amount)", "gain": "(self, damage, at, amount)",
+        "guess": "(self, damage, at, amount)", "close": "(self, damage, at)", "reopen": "(self, damage, at)",
+        "shift": "(self, damage, year)", "merge": "(self, damage, into)", "strike": "(self, row)",
+        "drop": "(self, damage)", "undo": "(self)", "redo": "(self)", "rows": "(self)",
+        "damages": "(self, *, known=None)", "about": "(self, number, *, known=None)",
+        "movements": "(self, kind, branch, *, known=None)", "__len__": "(self)",
+    },
 }
-VALUES = {("wedge", "Wedge"): ["first", "depth", "look"], ("plan", "Plan"): ["last", "free"]}
+VALUES = {
+    ("wedge", "Wedge"): ["first", "depth", "look"], ("plan", "Plan"): ["last", "free"],
+    ("keeper", "Keeper"): ["anew"], ("book", "Book"): ["first", "depth"],
+}
 
 
 def module(name):
@@ -71,7 +88,9 @@ class Interface(unittest.TestCase):
                     self.assertEqual(str(inspect.signature(vars(held)[name])), arguments)
 
     def test_values_are_set_on_each_object(self):
-        made = {("wedge", "Wedge"): module("wedge").Wedge(2001, 1, [[(1, 1)]]), ("plan", "Plan"): module("plan").Plan()}
+        wedge = module("wedge").Wedge(2001, 1, [[(1, 1)]])
+        made = {("wedge", "Wedge"): wedge, ("plan", "Plan"): module("plan").Plan(),
+                ("keeper", "Keeper"): module("keeper").Keeper(wedge), ("book", "Book"): module("book").Book(2001)}
         for where, values in VALUES.items():
             for name in values:
                 self.assertIn(name, vars(made[where]))

@@ -29,6 +29,8 @@ NO_WORD = set("""
     type typing typing_extensions enum Enum IntEnum StrEnum Flag IntFlag Generic Protocol ABC ABCMeta namedtuple
     NamedTuple TypedDict TYPE_CHECKING abstractmethod
 """.split())
+AT_ONCE = {"zip", "enumerate", "reversed", "range"}
+TAKE_AT_ONCE = {"list", "tuple", "dict", "sorted", "sum", "any", "all", "enumerate", "zip", "min", "max", "reversed", "len"}
 NO_STATEMENT = (ast.Global, ast.AsyncFunctionDef, ast.AsyncFor, ast.AsyncWith, ast.Await, ast.Import)
 PLAIN = (ast.Constant, ast.Tuple, ast.List, ast.Dict, ast.Load, ast.UnaryOp, ast.USub, ast.Name)
 
@@ -128,6 +130,23 @@ class Modules(unittest.TestCase):
             local += [node.arg for node in ast.walk(tree) if isinstance(node, ast.arg)]
             self.assertEqual(set(local) & taken, set(), file)
 
+    def test_l15_no_list_or_dict_within_another_thing(self):
+        for file, tree in TREES.items():
+            for node in tree.body:
+                if isinstance(node, ast.Assign):
+                    inner = [part for part in ast.walk(node.value) if part is not node.value]
+                    self.assertEqual([part for part in inner if isinstance(part, (ast.List, ast.Dict))], [], file)
+
+    def test_l15_tables_are_only_read(self):
+        tables = {name for tree in TREES.values() for node in tree.body if isinstance(node, ast.Assign)
+                  and isinstance(node.value, (ast.List, ast.Dict)) for name in [node.targets[0].id]}
+        for file, node in nodes(ast.Subscript):
+            if isinstance(node.value, ast.Name) and node.value.id in tables:
+                self.assertIsInstance(node.ctx, ast.Load, (file, node.lineno))
+        for file, node in nodes(ast.Attribute):
+            if isinstance(node.value, ast.Name):
+                self.assertNotIn(node.value.id, tables, (file, node.lineno))
+
 
 class Names(unittest.TestCase):
 
@@ -180,6 +199,67 @@ class Statements(unittest.TestCase):
             if node.exc is not None:
                 self.assertIsInstance(node.exc, ast.Call, (file, node.lineno))
                 self.assertIsInstance(node.exc.func, ast.Name, (file, node.lineno))
+
+    def test_l18_classes_are_called_tested_or_raised_alone(self):
+        classes = {node.name for _, node in nodes(ast.ClassDef)}
+        for file, tree in TREES.items():
+            let = set()
+            for node in ast.walk(tree):
+                if isinstance(node, ast.Call):
+                    let.add(node.func)
+                    if isinstance(node.func, ast.Name) and node.func.id == "isinstance":
+                        let.add(node.args[1])
+                    if isinstance(node.func, ast.Attribute) and node.func.attr == "__init__":
+                        let.add(node.func.value)
+                elif isinstance(node, ast.ClassDef):
+                    let.update(node.bases)
+                elif isinstance(node, ast.ExceptHandler):
+                    let.update(node.type.elts if isinstance(node.type, ast.Tuple) else [node.type])
+            for node in ast.walk(tree):
+                if isinstance(node, ast.Name) and node.id in classes:
+                    self.assertIn(node, let, (file, node.lineno))
+
+    def test_l19_own_errors_are_caught_by_name(self):
+        own = {node.name for node in TREES["errors"].body if isinstance(node, ast.ClassDef)}
+        for file, node in nodes(ast.ExceptHandler):
+            caught = node.type.elts if isinstance(node.type, ast.Tuple) else [node.type]
+            self.assertEqual({name.id for name in caught} - own, set(), (file, node.lineno))
+
+    def test_l22_keywords_of_builtins_and_their_methods(self):
+        for file, node in nodes(ast.Call):
+            if isinstance(node.func, ast.Name) and hasattr(builtins, node.func.id):
+                let = {"enumerate": {"start"}, "sum": {"start"}}.get(node.func.id, set())
+                self.assertEqual({word.arg for word in node.keywords} - let, set(), (file, node.lineno))
+            elif isinstance(node.func, ast.Attribute) and node.func.attr in BUILTIN_METHODS:
+                self.assertEqual(node.keywords, [], (file, node.lineno))
+
+    def test_l23_iterated_at_once(self):
+        for file, tree in TREES.items():
+            let = set()
+            for node in ast.walk(tree):
+                if isinstance(node, (ast.For, ast.comprehension)):
+                    let.add(node.iter)
+                elif isinstance(node, ast.Call) and isinstance(node.func, ast.Name) and node.func.id in TAKE_AT_ONCE:
+                    let.update(node.args[:1])
+                elif isinstance(node, ast.Call) and isinstance(node.func, ast.Attribute) and node.func.attr == "join":
+                    let.update(node.args)
+            for node in ast.walk(tree):
+                if isinstance(node, ast.Call) and isinstance(node.func, ast.Name) and node.func.id in AT_ONCE:
+                    self.assertIn(node, let, (file, node.lineno))
+
+    def test_l24_no_sets(self):
+        self.assertEqual(nodes((ast.Set, ast.SetComp)), [])
+
+    def test_l25_methods_of_builtin_values(self):
+        called = {node.func.attr for _, node in nodes(ast.Call) if isinstance(node.func, ast.Attribute)}
+        self.assertEqual(called - method_names() - BUILTIN_METHODS - {"__init__"}, set())
+
+    def test_l28_double_underscore_methods(self):
+        for file, node in nodes(ast.FunctionDef):
+            if node.name == "__init__":
+                self.assertEqual([part for part in ast.walk(node) if isinstance(part, ast.Return)], [], file)
+            elif node.name in DOUBLE_UNDERSCORE:
+                self.assertEqual([type(part) for part in node.body], [ast.Return], (file, node.name))
 
     def test_l20_is(self):
         for file, node in nodes(ast.Compare):

@@ -51,6 +51,27 @@ class MakingParts(Refusing):
         self.assertEqual(parts.part(6 * MANY, 4 * MANY), (3, 2))
         self.assertEqual(parts.part(MANY + 1, MANY), (MANY + 1, MANY))
 
+    def test_shared_factors_of_long_numbers(self):
+        # About the lengths at which numbers begin to be shortened by their heads, and far beyond.
+        lengths = (200, 500, 520, 1020, 1024, 1026, 1100, 1600, 2100, 5000)
+        numbers = [3 ** length // 2 ** (length // 2) + length for length in lengths]
+        numbers += [2 ** length + turn for length in lengths for turn in (-1, 0, 1)]
+        for shared in (1, 6, 2 ** 1023 - 1, 7 ** 900):
+            for one in numbers:
+                for other in numbers[::3]:
+                    made = parts.part(one * shared, other * shared)
+                    self.assertEqual(made, pair(Fraction(one, other)))
+                    self.assertTrue(parts.is_part(made))
+
+    def test_numbers_whose_factor_is_found_in_the_most_steps(self):
+        ahead, behind = 0, 1
+        for length in range(6000):
+            ahead, behind = behind, ahead + behind
+            if length % 250 == 249:
+                self.assertEqual(parts.part(ahead, behind), (ahead, behind))
+                self.assertEqual(parts.part(behind * ahead, ahead * ahead), (behind, ahead))
+                self.assertEqual(parts.part(behind + ahead * 2 ** 700, ahead)[1], ahead)
+
     def test_tuple_of_whole_numbers(self):
         made = parts.part(4, -6)
         self.assertEqual([type(thing) for thing in (made, *made)], [tuple, int, int])
