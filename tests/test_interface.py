@@ -30,6 +30,14 @@ FUNCTIONS = {
     "misses": {"miss": "(wedge, step, factor)", "least": "(wedge)", "spreads": "(wedge)", "unsure": "(wedge)"},
     "reach": {"last_lag": "(years, depth, row)", "reach": "(years, depth, row, lag)"},
     "slopes": {"slopes": "(wedge)", "gap": "(one, other)"},
+    "cells": {
+        "wedge_of": "(book, branch, kind, look, *, known=None)",
+        "diagonal": "(book, branch, kind, at, *, known=None)",
+        "wedge_without": "(book, damage, branch, kind, look, *, known=None)",
+        "by_damage": "(book, branch, kind, look, *, known=None)",
+        "between": "(book, branch, kind, look, start, end)",
+    },
+    "pages": {"written": "(book)", "read_book": "(text)"},
 }
 CLASSES = {
     ("wedge", "Wedge"): {
@@ -57,6 +65,11 @@ CLASSES = {
         "damages": "(self, *, known=None)", "about": "(self, number, *, known=None)",
         "movements": "(self, kind, branch, *, known=None)", "__len__": "(self)",
     },
+    ("closings", "Ledger"): {
+        "__init__": "(self, book, branch, kind)", "shut": "(self, look)", "booked": "(self, at)",
+        "results": "(self)", "__len__": "(self)",
+    },
+    ("desk", "Desk"): {"__init__": "(self, first, *, depth=6)", "ask": "(self, line)"},
 }
 VALUES = {
     ("wedge", "Wedge"): ["first", "depth", "look"], ("plan", "Plan"): ["last", "free"],
